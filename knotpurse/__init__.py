@@ -1,0 +1,1 @@
+"""Knotpurse: a year's money by heads, entered late and told by date."""

@@ -1,0 +1,98 @@
+"""The rules of LANGUAGE.md that a plain look at the files can tell. It does not tell all of them."""
+
+import ast
+import pathlib
+import re
+import unittest
+import warnings
+
+PACKAGE = pathlib.Path(__file__).resolve().parent.parent / "knotpurse"
+BARRED_WORDS = ("type typing typing_extensions enum Enum IntEnum StrEnum Flag IntFlag Generic Protocol ABC ABCMeta "
+                "namedtuple NamedTuple TypedDict TYPE_CHECKING abstractmethod").split()
+BARRED_NAMES = ("register mro elements open input law version_info with_traceback add_note eval exec getattr setattr "
+                "hasattr delattr globals locals vars dir hash id map filter round iter next chr float complex object "
+                "frozenset bytearray memoryview print super").split()
+DOUBLE = ("__init__",)
+
+
+def files():
+    return sorted(PACKAGE.glob("*.py"))
+
+
+class Language(unittest.TestCase):
+    def trees(self):
+        for path in files():
+            yield path, ast.parse(path.read_text())
+
+    def nodes(self, *kinds):
+        for path, tree in self.trees():
+            for node in ast.walk(tree):
+                if isinstance(node, kinds):
+                    yield path, node
+
+    def test_files_alone(self):
+        for path in PACKAGE.iterdir():
+            if path.name != "__pycache__":
+                self.assertRegex(path.name, r"\A(__init__|[a-z][a-z0-9_]*)\.py\Z")
+        self.assertTrue((PACKAGE / "__init__.py").exists())
+
+    def test_signs_and_sizes(self):
+        for path, tree in self.trees():
+            text = path.read_text()
+            self.assertRegex(text, r"\A[ -~\n]*\Z")
+            lines = text.split("\n")
+            self.assertLess(len(lines), 400)
+            self.assertLessEqual(max([len(line) for line in lines]), 120)
+            words = re.findall(r"[A-Za-z0-9_]+", text)
+            self.assertEqual([], [word for word in BARRED_WORDS if word in words])
+            for part in ["dataclass", "overload", "contextmanager"]:
+                self.assertNotIn(part, text)
+
+    def test_small_functions(self):
+        for path, node in self.nodes(ast.FunctionDef):
+            self.assertLessEqual(node.end_lineno - node.lineno + 1, 40, node.name)
+            self.assertEqual([], node.decorator_list)
+
+    def test_imports_of_the_package_alone(self):
+        for path, node in self.nodes(ast.Import, ast.ImportFrom):
+            self.assertIsInstance(node, ast.ImportFrom)
+            self.assertRegex(node.module, r"\Aknotpurse\.[a-z]+\Z")
+            self.assertEqual(0, node.level)
+
+    def test_plain_module_level(self):
+        allowed = (ast.ImportFrom, ast.FunctionDef, ast.ClassDef, ast.Assign)
+        for path, tree in self.trees():
+            self.assertIsNotNone(ast.get_docstring(tree))
+            for node in tree.body[1:]:
+                self.assertIsInstance(node, allowed)
+
+    def test_names(self):
+        for path, node in self.nodes(ast.Name, ast.FunctionDef, ast.ClassDef, ast.arg, ast.Attribute):
+            name = getattr(node, "id", None) or getattr(node, "name", None) or getattr(node, "arg", None) or node.attr
+            self.assertTrue(name in DOUBLE or not name.startswith("_"), name)
+            self.assertNotIn(name, BARRED_NAMES)
+
+    def test_no_name_is_a_method_and_a_field(self):
+        methods, fields = set(), set()
+        for path, node in self.nodes(ast.ClassDef):
+            methods |= {one.name for one in node.body if isinstance(one, ast.FunctionDef)}
+            fields |= {one.attr for one in ast.walk(node) if isinstance(one, ast.Attribute)
+                       and isinstance(one.ctx, ast.Store)}
+        self.assertEqual(set(), methods & fields)
+
+    def test_no_points_and_no_sets(self):
+        for path, node in self.nodes(ast.Constant, ast.Div, ast.Set, ast.SetComp, ast.Global, ast.Is, ast.IsNot):
+            self.assertIsInstance(node, ast.Constant)
+            self.assertNotIsInstance(node.value, (float, complex))
+            if isinstance(node.value, str):
+                self.assertNotIn("%", node.value)
+
+    def test_no_warnings(self):
+        with warnings.catch_warnings():
+            warnings.simplefilter("error")
+            for path in files():
+                compile(path.read_text(), str(path), "exec")
+
+
+if __name__ == "__main__":
+    unittest.main()
