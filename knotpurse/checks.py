@@ -1,4 +1,6 @@
-"""What numbers, words, lists and rows are, for all modules of the package."""
+"""What numbers, words, lists and rows are, and what is a head or a day of a year, for all modules of the package."""
+
+from knotpurse.errors import NoDay, NoHead
 
 LETTERS = "abcdefghijklmnopqrstuvwxyz"
 MOST_LETTERS = 8
@@ -32,3 +34,15 @@ def is_list(value, least, most):
 def is_row(value, many):
     """Whether the value is a tuple of so many items."""
     return isinstance(value, tuple) and len(value) == many
+
+
+def check_head(year, head):
+    """Refuse what is no head of the year."""
+    if head not in year.names():
+        raise NoHead("no head of the year has this name")
+
+
+def check_day(day, least, most):
+    """Refuse what is no whole number from least to most."""
+    if not is_whole(day, least, most):
+        raise NoDay("no such day may stand here")

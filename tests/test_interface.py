@@ -35,7 +35,24 @@ CLASSES = {
         ]
     },
 }
-FUNCTIONS = {"entries": {"read_entry": ["told"]}}
+CLASSES["dated"] = {
+    "Dated": (["year", "rows"], None, {
+        "breach": [], "taken": ["k", "date"], "word_left": ["word", "date"],
+        **{name: ["head", "date"] for name in ["given", "moved", "spent", "promised", "held", "left"]},
+    }),
+}
+CLASSES["books"] = {
+    "Book": (["year"], None, {
+        "enter": ["day", "date", "entry"], "right": ["day", "number", "date", "entry"], "back": ["day", "number"],
+        "today": [], "lines": [], "live": [], "late": [], "known": ["day"], "sums": ["head", "day", "date"],
+        "knot": ["head", "day", "date"], "may": ["head", "date"], "twin": [],
+    }),
+}
+FUNCTIONS = {
+    "entries": {"read_entry": ["told"]},
+    "leanings": {"may_be_back": ["book", "number"], "needs": ["book", "number"],
+                 "fills": ["book", "head", "date", "coins"]},
+}
 
 
 def tree_of(file):
@@ -65,9 +82,9 @@ class Interface(unittest.TestCase):
                 self.assertEqual(arguments, arguments_of(there[name]))
 
     def test_each_is_imported_from_its_file(self):
-        for file, classes in CLASSES.items():
+        for file in [*CLASSES, *FUNCTIONS]:
             module = importlib.import_module("knotpurse." + file)
-            for name in [*classes, *FUNCTIONS.get(file, {})]:
+            for name in [*CLASSES.get(file, {}), *FUNCTIONS.get(file, {})]:
                 self.assertEqual(module.__name__, inspect.getmodule(getattr(module, name)).__name__)
 
 

@@ -1,6 +1,7 @@
 """The rules of LANGUAGE.md that a plain look at the files can tell. It does not tell all of them."""
 
 import ast
+import builtins
 import pathlib
 import re
 import unittest
@@ -13,6 +14,7 @@ BARRED_NAMES = ("register mro elements open input law version_info with_tracebac
                 "hasattr delattr globals locals vars dir hash id map filter round iter next chr float complex object "
                 "frozenset bytearray memoryview print super").split()
 DOUBLE = ("__init__",)
+BUILTIN_METHODS = ("append", "get")
 
 
 def files():
@@ -81,11 +83,49 @@ class Language(unittest.TestCase):
         self.assertEqual(set(), methods & fields)
 
     def test_no_points_and_no_sets(self):
-        for path, node in self.nodes(ast.Constant, ast.Div, ast.Set, ast.SetComp, ast.Global, ast.Is, ast.IsNot):
+        for path, node in self.nodes(ast.Constant, ast.Div, ast.Set, ast.SetComp, ast.Global):
             self.assertIsInstance(node, ast.Constant)
             self.assertNotIsInstance(node.value, (float, complex))
             if isinstance(node.value, str):
                 self.assertNotIn("%", node.value)
+
+    def test_is_beside_none_and_truths_alone(self):
+        for path, node in self.nodes(ast.Compare):
+            for sign, right in zip(node.ops, node.comparators):
+                if isinstance(sign, (ast.Is, ast.IsNot)):
+                    self.assertTrue(isinstance(right, ast.Constant) and right.value in (None, True, False))
+
+    def test_local_names_are_no_builtins_imports_or_classes(self):
+        for path, tree in self.trees():
+            taken = set(dir(builtins)) | {one.name for one in tree.body if isinstance(one, ast.ClassDef)}
+            taken |= {one.name for node in tree.body if isinstance(node, ast.ImportFrom) for one in node.names}
+            for node in ast.walk(tree):
+                name = node.arg if isinstance(node, ast.arg) else None
+                if isinstance(node, ast.Name) and isinstance(node.ctx, ast.Store):
+                    name = node.id
+                if isinstance(node, (ast.MatchAs, ast.MatchStar)):
+                    name = node.name
+                self.assertNotIn(name, taken, path.name)
+
+    def test_what_is_read_off_an_object_is_defined_by_a_class(self):
+        own, read = set(), set()
+        for path, node in self.nodes(ast.ClassDef, ast.Attribute):
+            if isinstance(node, ast.ClassDef):
+                own |= {one.name for one in node.body if isinstance(one, ast.FunctionDef)}
+            elif isinstance(node.ctx, ast.Store):
+                own.add(node.attr)
+            else:
+                read.add(node.attr)
+        self.assertEqual(set(), read - own - set(BUILTIN_METHODS))
+
+    def test_no_two_files_import_from_each_other(self):
+        imports = {path.stem: [node.module.split(".")[1] for node in tree.body if isinstance(node, ast.ImportFrom)]
+                   for path, tree in self.trees()}
+        done = []
+        while len(done) < len(imports):
+            free = [file for file in imports if file not in done and all(one in done for one in imports[file])]
+            self.assertNotEqual([], free)
+            done += free
 
     def test_no_warnings(self):
         with warnings.catch_warnings():
