@@ -269,3 +269,45 @@ def fills(year, lines, head, date, coins):
             moves.append((name, min(room, lacking)))
         lacking -= min(room, lacking)
     return ("moves", moves)
+
+
+def carried(year, lines, rules, new):
+    """[26]: ("told", (lines, fallen)), or the refusal and what it bears."""
+    rows = live(lines, 99)
+    left = walked(rows)[1]
+    head_of = {told[1]: told[2] for number, date, told in rows if told[0] == "promise"}
+    entered_lines, fallen = [], []
+    for head, part, whole, most in rules:
+        sums = six(year, rows, head, year.days)
+        over = sums["left"] + sums["held"]
+        kept = over * part // whole if over * part // whole < most else most
+        fallen.append((head, over - kept))
+        tolds = [("give", head, kept + sums["promised"], "carried")] if kept + sums["promised"] != 0 else []
+        tolds += [("promise", word, head, left[word], "carried") for word in sorted(left)
+                  if head_of[word] == head and left[word] != 0]
+        for told in tolds:
+            found = enter(new, entered_lines, 1, 1, told) if told[-2] <= 10 ** 12 else ("NoEntry", None)
+            if found[0] != "told":
+                return found
+            entered_lines.append(("in", 1, 1, told))
+    return ("told", (entered_lines, fallen))
+
+
+def judged(year, lines):
+    """[29], of tuples that are lines but for what a book refuses: the number of the first one refused, or None."""
+    for at, line in enumerate(lines):
+        asked = {"in": enter, "back": back, "right": right}[line[0]]
+        if asked(year, lines[:at], *line[1:])[0] != "told":
+            return at
+    return None
+
+
+def unlike(year, rows, others):
+    """[29]: the first date, head and name at which the sums of the rows differ, or None."""
+    for date in range(1, year.days + 1):
+        for head in year.names():
+            ours, theirs = six(year, rows, head, date), six(year, others, head, date)
+            for name in SIX:
+                if ours[name] != theirs[name]:
+                    return (date, head, name)
+    return None

@@ -48,10 +48,14 @@ CLASSES["books"] = {
         "knot": ["head", "day", "date"], "may": ["head", "date"], "twin": [],
     }),
 }
+CLASSES["desk"] = {"Desk": ([], None, {"say": ["row"]})}
 FUNCTIONS = {
     "entries": {"read_entry": ["told"]},
     "leanings": {"may_be_back": ["book", "number"], "needs": ["book", "number"],
                  "fills": ["book", "head", "date", "coins"]},
+    "carrying": {"carried": ["book", "rules", "year"]},
+    "texts": {"year_text": ["year"], "lines_text": ["lines"], "read_year": ["text"], "read_lines": ["text"]},
+    "judging": {"judged": ["year", "lines"], "alike_books": ["book", "other"]},
 }
 
 

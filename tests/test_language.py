@@ -14,7 +14,7 @@ BARRED_NAMES = ("register mro elements open input law version_info with_tracebac
                 "hasattr delattr globals locals vars dir hash id map filter round iter next chr float complex object "
                 "frozenset bytearray memoryview print super").split()
 DOUBLE = ("__init__",)
-BUILTIN_METHODS = ("append", "get")
+BUILTIN_METHODS = ("append", "get", "join", "partition", "pop", "split")
 
 
 def files():
@@ -117,6 +117,30 @@ class Language(unittest.TestCase):
             else:
                 read.add(node.attr)
         self.assertEqual(set(), read - own - set(BUILTIN_METHODS))
+
+    def test_own_errors_alone_are_caught_and_made_where_they_are_raised(self):
+        own = {node.name for path, node in self.nodes(ast.ClassDef) if path.stem == "errors"}
+        for path, node in self.nodes(ast.ExceptHandler, ast.Raise):
+            if isinstance(node, ast.ExceptHandler):
+                self.assertIn(node.type.id, own)
+            else:
+                self.assertIn(node.exc.func.id, own)
+                self.assertTrue(node.cause is None or node.cause.value is None)
+
+    def test_captured_names_are_read_in_their_case_alone(self):
+        for path, function in self.nodes(ast.FunctionDef):
+            cases = [node for node in ast.walk(function) if isinstance(node, ast.match_case)]
+            captured = {one.name for case in cases for one in ast.walk(case.pattern)
+                        if isinstance(one, (ast.MatchAs, ast.MatchStar)) and one.name}
+            inside = {id(one) for case in cases for one in ast.walk(case) if isinstance(one, ast.Name)
+                      and one.id in {two.name for two in ast.walk(case.pattern)
+                                     if isinstance(two, (ast.MatchAs, ast.MatchStar))}}
+            for node in ast.walk(function):
+                if isinstance(node, ast.Name) and node.id in captured:
+                    self.assertIn(id(node), inside, (path.name, function.name, node.id))
+                    self.assertIsInstance(node.ctx, ast.Load)
+                if isinstance(node, ast.arg):
+                    self.assertNotIn(node.arg, captured)
 
     def test_no_two_files_import_from_each_other(self):
         imports = {path.stem: [node.module.split(".")[1] for node in tree.body if isinstance(node, ast.ImportFrom)]

@@ -3,6 +3,7 @@
 from knotpurse import errors
 from knotpurse.books import Book
 from knotpurse.dated import Dated
+from knotpurse.desk import Desk
 from knotpurse.entries import Entry, Give, Hold, Lessen, Move, Out, Promise, Spend
 from knotpurse.years import Year
 
@@ -48,7 +49,7 @@ def no_entries():
         None, True, False, 0, -1, 10 ** 5000, -10 ** 5000, "A", "abcdefghi", "a b", "1", "~", "\n", "\t",
         [], [1], ["food"], [("food",)], [[]], (), (1,), ("food",), ((),), ([],), ({},), (None, None),
         {}, {"food": 1}, {1: "food"}, set(), {"food"}, {1}, {("food", "")},
-        year, book, book.known(1), Dated(year, []), Entry(), errors.PurseError("food"),
+        year, book, book.known(1), Dated(year, []), Desk(), Entry(), errors.PurseError("food"),
         errors.Passed(1, ("left", "food")), errors.Leaned([1]),
     ]
 
